@@ -1,0 +1,115 @@
+"""The examples of the document, as it prints them."""
+
+import ast
+import unittest
+
+from truenames import errors
+from truenames.group import groups, moves
+from truenames.table import passing
+from tests.helper import Case
+
+TABLES = """
+>>> SWITCH = Passing.of_left(((1, 0), (1, 0)))
+>>> FOUR = Passing.of_dots(((0, 1, 3, 2), (2, 3, 1, 0), (1, 0, 2, 3), (3, 2, 0, 1)))
+>>> TURNS = Passing((((0, 0), (2, 0), (1, 0)), ((2, 1), (1, 1), (0, 1)), ((1, 2), (0, 2), (2, 2))))
+"""
+MOVES = """
+>>> ROUND, SWAP = (1, 2, 0), (1, 0, 2)
+>>> [joined(ROUND, SWAP), joined(SWAP, ROUND), undone(ROUND), raised(ROUND, 10 ** 50), raised(ROUND, -1), joined((), ())]
+[(2, 1, 0), (0, 2, 1), (2, 0, 1), (1, 2, 0), (2, 0, 1), ()]
+>>> [cycles((1, 0, 3, 4, 2)), order_of((1, 0, 3, 4, 2)), cycles(()), order_of(()), is_move((0, 2)), is_move((0, True))]
+[((0, 1), (2, 3, 4)), 6, (), 1, False, False]
+>>> [closure(3, (ROUND, SWAP)), closure(2, ()), closure(0, ())]
+[((0, 1, 2), (0, 2, 1), (1, 0, 2), (1, 2, 0), (2, 0, 1), (2, 1, 0)), ((0, 1),), ((),)]
+>>> [orbits(5, ((1, 0, 2, 3, 4), (0, 1, 2, 4, 3))), orbits(0, ())]
+[((0, 1), (2,), (3, 4)), ()]
+>>> [way(4, ((1, 2, 3, 0), (3, 0, 1, 2)), 0, 3), way(4, ((1, 2, 3, 0),), 0, 3), way(3, (), 1, 1), way(3, (SWAP,), 0, 2)]
+[(1,), (0, 0, 0), (), None]
+>>> [is_way(3, (ROUND, SWAP), 0, 2, (0, 0)), is_way(3, (ROUND, SWAP), 0, 2, (1, 0)), is_way(3, (ROUND,), 0, 0, (0, 0, 0))]
+[True, True, False]
+>>> joined(ROUND, (1, 0))
+raises InvalidMove
+>>> closure(8, ((1, 2, 3, 4, 5, 6, 7, 0), (1, 0, 2, 3, 4, 5, 6, 7)))
+raises TooMany(1000)
+"""
+GROUPS = """
+>>> SIX = Group.polygon(3)
+>>> [SIX.unit, SIX.times(1, 2), SIX.times(2, 1), SIX.back(2), SIX.raised(2, -4), SIX.centre]
+[0, 5, 3, 4, 4, (0,)]
+>>> [SIX.closure((2,)), SIX.is_whole((0, 2, 4)), SIX.is_whole((0, 1)), SIX.quotient((0, 2, 4))[1], len(list(likenesses(SIX)))]
+[(0, 2, 4), True, False, ((0, 2, 4), (1, 3, 5)), 6]
+>>> [group_paper(((0, 1), (1, 1))), group_paper(((0, 1, 2), (1, 0, 1), (2, 2, 0)))]
+[('back', 1), ('three', 1, 1, 2)]
+>>> [like_paper(SIX, Group.cyclic(6)), Group.of_moves(3, ((1, 2, 0),)) == Group.cyclic(3)]
+[('orders', ((1, 1), (2, 3), (3, 2)), ((1, 1), (2, 1), (3, 2), (6, 2))), True]
+"""
+PASSING = """
+>>> BENT = (((0, 0), (1, 0)), ((1, 1), (0, 1)))
+>>> [fair_paper(SWITCH.rows), fair_paper((((0, 0), (0, 1)), ((1, 0), (1, 1)))), fair_paper(BENT), is_fair_paper(BENT, ("three", 0, 1, 1)), fair_paper(())]
+[('fair',), ('left', 0, 0, 1), ('three', 1, 0, 0), False, ('fair',)]
+>>> [SWITCH.rows, SWITCH.passed(0, 0), TURNS.is_quiet, TURNS.passed_back().passed(2, 0), TURNS.mirrored().passed(1, 0), str(TURNS), FOUR.left[1]]
+[(((1, 1), (0, 1)), ((1, 0), (0, 0))), (1, 1), False, (0, 1), (0, 2), 'fair table of 3 letters', (3, 2, 0, 1)]
+>>> [dots_paper(((0, 1), (1, 0))), dots_paper(((0, 0), (1, 0))), dots_of(SWITCH), len(list(likenesses_of(TURNS))), least_form(SWITCH), (SWITCH * SWITCH).passed(0, 1)]
+[('three', 0, 1, 0), ('row', 0, 0, 1), ((1, 0), (1, 0)), 6, '2 11011000', (2, 3)]
+>>> Passing(BENT)
+raises Refused(('three', 1, 0, 0))
+>>> Passing.of_pair((1, 2, 0), (1, 0, 2))
+raises Refused(('order', 0))
+"""
+
+
+def all_names():
+    """All names of the modules that the examples use."""
+    names = {}
+    for module in (errors, moves, groups, passing):
+        names.update(vars(module))
+    return names
+
+
+class TestExamples(Case):
+
+    def run_block(self, text, names):
+        lines = [line for line in text.split("\n") if line]
+        checked = 0
+        for index, line in enumerate(lines):
+            if not line.startswith(">>> "):
+                continue
+            told = lines[index + 1] if index + 1 < len(lines) else ">>> "
+            if told.startswith(">>> "):
+                exec(line[4:], names)
+            elif told.startswith("raises "):
+                self.check_error(line[4:], told[7:], names)
+                checked += 1
+            else:
+                self.assertEqual(eval(line[4:], names), ast.literal_eval(told), line)
+                checked += 1
+        return checked
+
+    def check_error(self, code, told, names):
+        name, bracket, kept = told.partition("(")
+        kept = ast.literal_eval(kept[:-1]) if bracket else None
+        self.refuses(getattr(errors, name), kept, lambda: eval(code, names))
+
+    def test_moves(self):
+        self.assertEqual(self.run_block(MOVES, all_names()), 8)
+
+    def test_groups(self):
+        self.assertEqual(self.run_block(GROUPS, all_names()), 4)
+
+    def test_tables(self):
+        self.assertEqual(self.run_block(TABLES + PASSING, all_names()), 5)
+
+    def test_what_the_document_says_of_its_tables(self):
+        names = all_names()
+        self.run_block(TABLES, names)
+        for x in range(2):
+            for y in range(2):
+                self.assertEqual(names["SWITCH"].passed(x, y), (1 - y, 1 - x))
+        for x in range(3):
+            for y in range(3):
+                self.assertEqual(names["TURNS"].passed(x, y), ((2 * x - y) % 3, x))
+        self.assertEqual([names[name].is_quiet for name in ("SWITCH", "FOUR", "TURNS")], [True, True, False])
+
+
+if __name__ == "__main__":
+    unittest.main()

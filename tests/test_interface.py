@@ -1,0 +1,97 @@
+"""The interface: its names stand in their modules, and are defined there."""
+
+import importlib
+import inspect
+import unittest
+
+import truenames
+
+INTERFACE = {
+    "truenames.errors": {
+        "NamesError": None, "InvalidMove": None, "InvalidGroup": None, "InvalidTable": None, "InvalidWord": None,
+        "InvalidVector": None, "InvalidDouble": None, "InvalidRing": None, "InvalidStrings": None,
+        "InvalidWeights": None, "InvalidOperation": None, "ParseError": None, "InvalidNumber": None,
+        "UnknownName": None, "TooMany": None, "Refused": None, "NothingToUndo": None,
+    },
+    "truenames.group.moves": {
+        "MAX_MOVED": 24, "MAX_CLOSURE": 1000,
+        "is_move": ["value"], "joined": ["one", "other"], "undone": ["move"], "raised": ["move", "many"],
+        "cycles": ["move"], "order_of": ["move"], "closure": ["size", "makers"], "orbits": ["size", "makers"],
+        "way": ["size", "makers", "start", "goal"], "is_way": ["size", "makers", "start", "goal", "value"],
+    },
+    "truenames.group.groups": {
+        "MAX_GROUP": 24, "MAX_LIKE": 12, "MAX_ALL": 8,
+        "group_paper": ["rows"], "is_group_paper": ["rows", "value"], "Group": ["rows"], "likenesses": ["group"],
+        "like_paper": ["one", "other"], "is_like_paper": ["one", "other", "value"], "all_groups": ["size"],
+    },
+    "truenames.table.passing": {
+        "MAX_LETTERS": 8, "MAX_LIKENED": 6, "MAX_FORMED": 5,
+        "fair_paper": ["rows"], "is_fair_paper": ["rows", "value"], "dots_paper": ["dots"],
+        "is_dots_paper": ["dots", "value"], "Passing": ["rows"], "dots_of": ["table"], "likenesses_of": ["table"],
+        "form_of": ["table"], "least_form": ["table"],
+    },
+}
+METHODS = {
+    ("truenames.group.groups", "Group"): {
+        "times": ["a", "b"], "back": ["a"], "order_of": ["a"], "raised": ["a", "many"], "closure": ["things"],
+        "parts": [], "is_whole": ["things"], "quotient": ["things"], "cyclic": ["size"], "polygon": ["size"],
+        "quaternions": [], "of_moves": ["size", "makers"], "__mul__": ["other"], "__eq__": ["other"], "__len__": [],
+        "__str__": [],
+    },
+    ("truenames.table.passing", "Passing"): {
+        "unmoved": ["size"], "of_left": ["left"], "of_dots": ["dots"], "of_pair": ["one", "other"],
+        "passed": ["one", "other"], "passed_back": [], "mirrored": [], "renamed": ["order"], "__mul__": ["other"],
+        "__eq__": ["other"], "__len__": [], "__str__": [],
+    },
+}
+CLASS_METHODS = ("cyclic", "polygon", "quaternions", "of_moves", "unmoved", "of_left", "of_dots", "of_pair")
+PROPERTIES = {
+    ("truenames.group.groups", "Group"): ("rows", "size", "unit", "is_commutative", "centre"),
+    ("truenames.table.passing", "Passing"): ("size", "rows", "left", "right", "is_quiet"),
+}
+
+
+def parameters(call):
+    return [name for name in inspect.signature(call).parameters if name not in ("self", "cls")]
+
+
+class TestInterface(unittest.TestCase):
+
+    def test_names_and_parameters(self):
+        for place, names in INTERFACE.items():
+            module = importlib.import_module(place)
+            for name, told in names.items():
+                found = getattr(module, name)
+                if isinstance(told, int):
+                    self.assertEqual(found, told)
+                    self.assertIs(type(found), int)
+                    continue
+                self.assertEqual(found.__module__, place, name)
+                self.assertEqual(found.__name__, name)
+                if told is not None:
+                    self.assertEqual(parameters(found), told, name)
+
+    def test_methods_stand_in_their_own_class(self):
+        for (place, name), methods in METHODS.items():
+            shown = getattr(importlib.import_module(place), name)
+            for method, told in methods.items():
+                self.assertIn(method, vars(shown), (name, method))
+                self.assertEqual(parameters(getattr(shown, method)), told, (name, method))
+                self.assertEqual(isinstance(vars(shown)[method], classmethod), method in CLASS_METHODS)
+
+    def test_properties_stand_in_their_own_class(self):
+        for (place, name), told in PROPERTIES.items():
+            shown = getattr(importlib.import_module(place), name)
+            for attribute in told:
+                self.assertIsInstance(vars(shown)[attribute], property)
+
+    def test_generators(self):
+        for place, name in (("truenames.group.groups", "likenesses"), ("truenames.table.passing", "likenesses_of")):
+            self.assertTrue(inspect.isgeneratorfunction(getattr(importlib.import_module(place), name)))
+
+    def test_the_package(self):
+        self.assertTrue(truenames.__file__.endswith("__init__.py"))
+
+
+if __name__ == "__main__":
+    unittest.main()

@@ -1,0 +1,1 @@
+"""Letters that change when they pass, and groups with two sums."""

@@ -1,0 +1,1 @@
+"""Moves and finite groups."""

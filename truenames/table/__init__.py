@@ -1,0 +1,1 @@
+"""Tables that tell what two letters become when they pass."""
