@@ -4,6 +4,7 @@ import copy
 import itertools
 import unittest
 
+from truenames.double.doubles import Double
 from truenames.errors import InvalidNumber, ParseError, NothingToUndo, Refused, TooMany, UnknownName
 from truenames.group.groups import Group
 from truenames.table.passing import Passing
@@ -13,6 +14,7 @@ FOUR = Passing.of_dots(((0, 1, 3, 2), (2, 3, 1, 0), (1, 0, 2, 3), (3, 2, 0, 1)))
 TURNS = Passing((((0, 0), (2, 0), (1, 0)), ((2, 1), (1, 1), (0, 1)), ((1, 2), (0, 2), (2, 2))))
 BENT = (((0, 0), (1, 0)), ((1, 1), (0, 1)))
 SIX = Group.polygon(3)
+RING = Double.of_turns(Group.cyclic(4), ((0, 1, 2, 3), (0, 3, 2, 1), (0, 1, 2, 3), (0, 3, 2, 1)))
 
 KEPT = {
     ParseError: "spot",
@@ -50,7 +52,7 @@ def some_values():
         ("group",), ("unit",), ("back", 1), ("three", 0, 0, 0), ("fair",), ("dots",), ("left", 0, 0, 1),
         ["group"], ("group", 0), ("like", (0, 1)), nested(8, 0), nested(8, "deep"), {"a": [{"b": (1,)}]},
         Group.cyclic(1), Group.cyclic(2), SIX, Passing.unmoved(0), SWITCH, TURNS,
-        (Group.cyclic(2), SWITCH), {"group": Group.cyclic(2)},
+        (Group.cyclic(2), SWITCH), {"group": Group.cyclic(2)}, RING, Double.about(SIX), [RING], (RING,),
     ]
 
 

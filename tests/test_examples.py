@@ -4,14 +4,17 @@ import ast
 import unittest
 
 from truenames import errors
+from truenames.double import doubles
 from truenames.group import groups, moves
 from truenames.table import passing
+from truenames.word import still, vectors, words
 from tests.helper import Case
 
 TABLES = """
 >>> SWITCH = Passing.of_left(((1, 0), (1, 0)))
 >>> FOUR = Passing.of_dots(((0, 1, 3, 2), (2, 3, 1, 0), (1, 0, 2, 3), (3, 2, 0, 1)))
 >>> TURNS = Passing((((0, 0), (2, 0), (1, 0)), ((2, 1), (1, 1), (0, 1)), ((1, 2), (0, 2), (2, 2))))
+>>> RING = Double.of_turns(Group.cyclic(4), ((0, 1, 2, 3), (0, 3, 2, 1), (0, 1, 2, 3), (0, 3, 2, 1)))
 """
 MOVES = """
 >>> ROUND, SWAP = (1, 2, 0), (1, 0, 2)
@@ -56,12 +59,70 @@ raises Refused(('three', 1, 0, 0))
 >>> Passing.of_pair((1, 2, 0), (1, 0, 2))
 raises Refused(('order', 0))
 """
+WORDS = """
+>>> [passed_at(SWITCH, (0, 0, 1), 0), passed_at(SWITCH, (0, 0, 1), 1), passed_at(TURNS, (0, 1, 2), 0), walked(FOUR, (0, 1, 2), (0, 1))]
+[(1, 1, 1), (0, 0, 1), (2, 0, 2), (1, 2, 2)]
+>>> [crossed(TURNS, (0, 1, 2), (2, 1, 0)), walked(TURNS, (0, 1, 2), (1, 0, 1)), crossed(TURNS, (0, 1, 2), (0, 1, 2)), crossed(SWITCH, (), ())]
+[(0, 2, 0), (0, 2, 0), (0, 1, 2), ()]
+>>> [true_names(SWITCH, (0, 0, 1)), true_names(FOUR, (0, 1, 2)), true_names(FOUR, (1, 2, 2)), word_of_names(FOUR, (0, 0, 1))]
+[(0, 1, 1), (0, 1, 0), (1, 0, 0), (0, 0, 1)]
+>>> [is_kin_paper(FOUR, (0, 1, 2), (1, 2, 2), ("passings", (0,))), is_kin_paper(FOUR, (0, 1, 2), (1, 2, 2), ("passings", (0, 1, 1))), kin_paper(SWITCH, (0, 1), (0, 0))[0]]
+[True, True, 'name']
+>>> [steps_between(FOUR, (0, 1, 2), (1, 2, 2)), steps_between(SWITCH, (0, 1), (0, 0)), kin_count(FOUR, (0, 1, 2)), list(kin_words(FOUR, (0, 1, 2)))]
+[1, None, 3, [(0, 0, 1), (0, 1, 2), (1, 2, 2)]]
+>>> true_names(TURNS, (0, 1))
+raises Refused(('quiet',))
+>>> passed_at(TURNS, (0, 1), 1)
+raises InvalidNumber(1)
+"""
+VECTORS = """
+>>> [vector_of(SWITCH, (0, 1)), vector_of(SWITCH, (0, 0)), word_of(SWITCH, (2, 0)), vector_of(FOUR, (0, 1, 2)), turning(SWITCH, (-3, 10 ** 50))]
+[(2, 0), (1, 1), (0, 1), (2, 1, 0, 0), (1, 0)]
+>>> [added(SWITCH, (1, 0), (1, 0)), taken_back(SWITCH, (1, 0)), power(SWITCH, (1, 0), 3), power(SWITCH, (1, 0), -1), power(SWITCH, (2, 1), 0)]
+[(1, 1), (0, -1), (2, 1), (0, -1), (0, 0)]
+>>> [rest_behind(SWITCH, (1, 0), (2, 0)), rest_ahead(SWITCH, (1, 0), (2, 0)), is_beginning(SWITCH, (1, 0), (2, 0)), is_ending(SWITCH, (1, 0), (2, 0))]
+[(0, 1), (2, -1), True, False]
+>>> [least_common(SWITCH, (2, 0), (0, 1)), greatest_common(SWITCH, (2, 0), (1, 1))]
+[((2, 1), (0, 1), (0, 2)), ((1, 0), (0, 1), (1, 0))]
+>>> vector_of(TURNS, (0, 1))
+raises Refused(('quiet',))
+>>> power(SWITCH, (10 ** 40, 0), 10 ** 40)
+raises TooMany(60)
+"""
+STILL = """
+>>> [still_base(SWITCH), own_count(SWITCH), exponent(SWITCH), turnings(SWITCH)]
+[((1, 1), (0, 2)), 2, 2, ((0, 1), (1, 0))]
+>>> [still_base(FOUR), own_count(FOUR), exponent(FOUR), turnings(FOUR)[:3]]
+[((1, 1, 1, 1), (0, 2, 0, 0), (0, 0, 2, 0), (0, 0, 0, 2)), 8, 2, ((0, 1, 2, 3), (0, 1, 3, 2), (1, 0, 2, 3))]
+>>> [remainder(FOUR, (1, 0, 0, 0)), remainder(SWITCH, (-3, 10 ** 50)), is_still(FOUR, (1, 1, 1, 1)), is_still(FOUR, (1, 1, 0, 0))]
+[(0, 1, 1, 1), (0, 1), True, False]
+>>> [folded(SWITCH, (-3, 4)), folded_added(SWITCH, (1, 0), (1, 1)), folded_added(SWITCH, (3, 2), (-1, 5))]
+[(1, 0), (0, 1), (0, 1)]
+>>> BENT = Passing.of_left(((0, 1, 2), (0, 1, 2), (1, 0, 2)))
+>>> [still_base(BENT), exponent(BENT), still_base(Passing.unmoved(2)), still_base(Passing.unmoved(0)), own_count(Passing.unmoved(0))]
+[((1, 0, 0), (0, 1, 0), (0, 0, 2)), 2, ((1, 0), (0, 1)), (), 1]
+>>> still_base(TURNS)
+raises Refused(('quiet',))
+"""
+DOUBLES = """
+>>> [RING.circle.rows[1], RING.star(1, 1), RING.star(1, 2), RING.is_plain, str(RING), len(RING * Double.both(Group.cyclic(2)))]
+[(1, 0, 3, 2), 2, 0, False, 'double of 4 things', 8]
+>>> [table_of(RING).passed(1, 1), table_of(RING).passed(1, 2), table_of(RING).is_quiet, RING == Double(RING.plus, RING.circle), ~RING == RING]
+[(3, 3), (2, 1), True, True, True]
+>>> THREE = ((0, 1, 2), (0, 2, 1), (0, 2, 1))
+>>> [turns_paper(Group.cyclic(3), THREE), is_turns_paper(Group.cyclic(3), THREE, ("joined", 2, 1)), turns_paper(RING.plus, RING.turns)]
+[('joined', 1, 2), True, ('turns',)]
+>>> [turns_paper(Group.cyclic(2), ((0, 1), (1, 0))), double_paper(Group.cyclic(2), Group(((1, 0), (0, 1)))), Double.both(Group.polygon(3)) == Double.about(Group.polygon(3))]
+[('likeness', 1, 0, 0), ('rule', 0, 0, 0), False]
+>>> Double.of_turns(Group.cyclic(3), THREE)
+raises Refused(('joined', 1, 2))
+"""
 
 
 def all_names():
     """All names of the modules that the examples use."""
     names = {}
-    for module in (errors, moves, groups, passing):
+    for module in (errors, moves, groups, passing, words, vectors, still, doubles):
         names.update(vars(module))
     return names
 
@@ -99,6 +160,18 @@ class TestExamples(Case):
     def test_tables(self):
         self.assertEqual(self.run_block(TABLES + PASSING, all_names()), 5)
 
+    def test_words(self):
+        self.assertEqual(self.run_block(TABLES + WORDS, all_names()), 7)
+
+    def test_vectors(self):
+        self.assertEqual(self.run_block(TABLES + VECTORS, all_names()), 6)
+
+    def test_still_vectors(self):
+        self.assertEqual(self.run_block(TABLES + STILL, all_names()), 6)
+
+    def test_doubles(self):
+        self.assertEqual(self.run_block(TABLES + DOUBLES, all_names()), 5)
+
     def test_what_the_document_says_of_its_tables(self):
         names = all_names()
         self.run_block(TABLES, names)
@@ -109,6 +182,9 @@ class TestExamples(Case):
             for y in range(3):
                 self.assertEqual(names["TURNS"].passed(x, y), ((2 * x - y) % 3, x))
         self.assertEqual([names[name].is_quiet for name in ("SWITCH", "FOUR", "TURNS")], [True, True, False])
+        for a in range(4):
+            for b in range(4):
+                self.assertEqual(names["RING"].circle.times(a, b), (a + b + 2 * a * b) % 4)
 
 
 if __name__ == "__main__":

@@ -30,6 +30,32 @@ INTERFACE = {
         "is_dots_paper": ["dots", "value"], "Passing": ["rows"], "dots_of": ["table"], "likenesses_of": ["table"],
         "form_of": ["table"], "least_form": ["table"],
     },
+    "truenames.word.words": {
+        "MAX_WORD": 200, "MAX_LED": 60, "MAX_KIN": 5000,
+        "passed_at": ["table", "word", "index"], "walked": ["table", "word", "indices"],
+        "crossed": ["table", "word", "move"], "true_names": ["table", "word"], "word_of_names": ["table", "names"],
+        "kin_paper": ["table", "one", "other"], "is_kin_paper": ["table", "one", "other", "value"],
+        "steps_between": ["table", "one", "other"], "kin_count": ["table", "word"], "kin_words": ["table", "word"],
+    },
+    "truenames.word.vectors": {
+        "vector_of": ["table", "word"], "turning": ["table", "vector"], "word_of": ["table", "vector"],
+        "added": ["table", "one", "other"], "taken_back": ["table", "vector"], "power": ["table", "vector", "many"],
+        "rest_behind": ["table", "one", "other"], "rest_ahead": ["table", "one", "other"],
+        "is_beginning": ["table", "one", "other"], "is_ending": ["table", "one", "other"],
+        "least_common": ["table", "one", "other"], "greatest_common": ["table", "one", "other"],
+    },
+    "truenames.word.still": {
+        "MAX_TURNINGS": 1000,
+        "turnings": ["table"], "still_base": ["table"], "own_count": ["table"], "exponent": ["table"],
+        "remainder": ["table", "vector"], "is_still": ["table", "vector"], "folded": ["table", "vector"],
+        "folded_added": ["table", "one", "other"],
+    },
+    "truenames.double.doubles": {
+        "MAX_DOUBLE": 24,
+        "Double": ["plus", "circle"], "double_paper": ["plus", "circle"],
+        "is_double_paper": ["plus", "circle", "value"], "turns_paper": ["plus", "turns"],
+        "is_turns_paper": ["plus", "turns", "value"], "table_of": ["double"],
+    },
 }
 METHODS = {
     ("truenames.group.groups", "Group"): {
@@ -43,12 +69,23 @@ METHODS = {
         "passed": ["one", "other"], "passed_back": [], "mirrored": [], "renamed": ["order"], "__mul__": ["other"],
         "__eq__": ["other"], "__len__": [], "__str__": [],
     },
+    ("truenames.double.doubles", "Double"): {
+        "of_turns": ["plus", "turns"], "both": ["group"], "about": ["group"], "star": ["a", "b"], "renamed": ["order"],
+        "__invert__": [], "__mul__": ["other"], "__eq__": ["other"], "__len__": [], "__str__": [],
+    },
 }
-CLASS_METHODS = ("cyclic", "polygon", "quaternions", "of_moves", "unmoved", "of_left", "of_dots", "of_pair")
+CLASS_METHODS = (
+    "cyclic", "polygon", "quaternions", "of_moves", "unmoved", "of_left", "of_dots", "of_pair", "of_turns", "both", "about",
+)
 PROPERTIES = {
     ("truenames.group.groups", "Group"): ("rows", "size", "unit", "is_commutative", "centre"),
     ("truenames.table.passing", "Passing"): ("size", "rows", "left", "right", "is_quiet"),
+    ("truenames.double.doubles", "Double"): ("plus", "circle", "size", "unit", "turns", "is_plain"),
 }
+GENERATORS = (
+    ("truenames.group.groups", "likenesses"), ("truenames.table.passing", "likenesses_of"),
+    ("truenames.word.words", "kin_words"),
+)
 
 
 def parameters(call):
@@ -86,7 +123,7 @@ class TestInterface(unittest.TestCase):
                 self.assertIsInstance(vars(shown)[attribute], property)
 
     def test_generators(self):
-        for place, name in (("truenames.group.groups", "likenesses"), ("truenames.table.passing", "likenesses_of")):
+        for place, name in GENERATORS:
             self.assertTrue(inspect.isgeneratorfunction(getattr(importlib.import_module(place), name)))
 
     def test_the_package(self):

@@ -4,8 +4,9 @@ from truenames.checks import check_integer, check_lot, check_thing, check_within
 from truenames.checks import is_same, is_square, is_told
 from truenames.errors import InvalidGroup, InvalidOperation, Refused, TooMany
 from truenames.group.moves import check_makers, closure_within, is_move_of
-from truenames.group.rows import back_of, broken_three, centre_of, least_part, order_in, unit_of
+from truenames.group.rows import back_of, backs_of, broken_three, centre_of, least_part, order_in
 from truenames.group.rows import cyclic_rows, move_rows, pair_rows, polygon_rows, quaternion_rows
+from truenames.group.rows import unit_of
 
 MAX_GROUP = 24
 MAX_LIKE = 12
@@ -56,7 +57,7 @@ class Group:
         unit = unit_of(rows)
         self._rows = rows
         self._unit = unit
-        self._backs = tuple([back_of(rows, unit, thing) for thing in range(len(rows))])
+        self._backs = backs_of(rows, unit)
         self._centre = centre_of(rows)
 
     @classmethod

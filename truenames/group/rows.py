@@ -1,6 +1,6 @@
 """Rows of products: what groups are made of, and what can be read off them."""
 
-from truenames.group.moves import joined_moves
+from truenames.group.moves import joined_moves, undone_move
 
 # The pairs of i, j, k (here 1, 2, 3) whose product is the third one, not its negative.
 FORWARD = ((1, 2), (2, 3), (3, 1))
@@ -21,6 +21,11 @@ def back_of(rows, unit, thing):
         if made == unit and rows[other][thing] == unit:
             return other
     return None
+
+
+def backs_of(rows, unit):
+    """What takes each thing back."""
+    return tuple([back_of(rows, unit, thing) for thing in range(len(rows))])
 
 
 def broken_three(rows):
@@ -111,3 +116,9 @@ def pair_rows(rows, others):
         for row in rows
         for other_row in others
     ])
+
+
+def renamed_rows(rows, order):
+    """The rows of the group whose thing i is the thing order[i] of this one."""
+    names = undone_move(order)
+    return tuple([tuple([names[rows[a][b]] for b in order]) for a in order])

@@ -242,6 +242,12 @@ def check_table(value):
         raise InvalidTable("not a table")
 
 
+def check_quiet(table):
+    """Refuse a table that is not quiet."""
+    if not table.is_quiet:
+        raise Refused(("quiet",))
+
+
 def _passes_twice_unchanged(rows):
     for x, row in enumerate(rows):
         for y, pair in enumerate(row):
@@ -274,8 +280,7 @@ def _pair_rows(rows, others):
 def dots_of(table):
     """The dots of a quiet table."""
     check_table(table)
-    if not table.is_quiet:
-        raise Refused(("quiet",))
+    check_quiet(table)
     return tuple([undone_move(move) for move in table.left])
 
 

@@ -1,0 +1,1 @@
+"""Doubles: groups with two sums."""

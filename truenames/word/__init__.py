@@ -1,0 +1,1 @@
+"""Words of letters that pass, and the vectors that tell them."""
