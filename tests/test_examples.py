@@ -4,9 +4,9 @@ import ast
 import unittest
 
 from truenames import errors
-from truenames.double import doubles
+from truenames.double import doubles, listing, making, own
 from truenames.group import groups, moves
-from truenames.table import passing
+from truenames.table import levels, passing
 from truenames.word import still, vectors, words
 from tests.helper import Case
 
@@ -117,12 +117,71 @@ DOUBLES = """
 >>> Double.of_turns(Group.cyclic(3), THREE)
 raises Refused(('joined', 1, 2))
 """
+LISTING = """
+>>> CYCLE, TWOS, SIX = Group.cyclic(4), Group.cyclic(2) * Group.cyclic(2), Group.polygon(3)
+>>> list(turn_rows(CYCLE))
+[((0, 1, 2, 3), (0, 1, 2, 3), (0, 1, 2, 3), (0, 1, 2, 3)), ((0, 1, 2, 3), (0, 3, 2, 1), (0, 1, 2, 3), (0, 3, 2, 1))]
+>>> [len(list(turn_rows(TWOS))), len(list(doubles_on(SIX))), kind_count(Group.quaternions()), [double.is_plain for double in doubles_on(CYCLE)]]
+[4, 4, 8, [True, False]]
+>>> [turns_like(CYCLE, TWOS), turns_like(TWOS, CYCLE), turns_like(Group.cyclic(6), SIX), turns_like(CYCLE, SIX)]
+[1, 3, 1, 0]
+>>> [kept_lots(SIX, Group.cyclic(6)), kept_lots(SIX, SIX), kept_lots(CYCLE, TWOS)]
+[3, 2, 1]
+>>> next(turn_rows(Group.cyclic(9)), None)
+raises TooMany(8)
+"""
+OWN = """
+>>> told = own_double(SWITCH)
+>>> [told[0] == Double.both(Group.cyclic(2)), told[1], move_of(SWITCH, 0), move_of(SWITCH, 1), thing_of(SWITCH, (10 ** 50 + 1, -4))]
+[True, (1, 1), (0, 1), (1, 0), 1]
+>>> BLOCKS = Passing.of_left(((1, 0, 3, 2), (2, 3, 0, 1), (2, 3, 0, 1), (1, 0, 3, 2)))
+>>> [own_double(BLOCKS)[0] == RING, own_double(BLOCKS)[1], [move_of(BLOCKS, thing) for thing in range(4)]]
+[True, (1, 3, 3, 1), [(0, 1, 2, 3), (1, 0, 3, 2), (3, 2, 1, 0), (2, 3, 0, 1)]]
+>>> [thing_of(BLOCKS, (1, 1, 0, 0)), thing_of(BLOCKS, (2, 0, 0, 0)), thing_of(BLOCKS, (0, 0, 0, -1))]
+[0, 2, 3]
+>>> [is_own(BLOCKS, RING, (1, 3, 3, 1)), is_own(BLOCKS, RING, (3, 1, 1, 3)), is_own(BLOCKS, RING, (1, 3, 1, 3)), is_own(BLOCKS, Double.both(Group.cyclic(4)), (1, 3, 3, 1))]
+[True, True, False, False]
+>>> [own_double(Passing.unmoved(3))[1], own_double(Passing.of_left(()))[0].size, is_own(SWITCH, Double.both(Group.cyclic(2)), (0, 1))]
+[(0, 0, 0), 1, False]
+>>> own_double(TURNS)
+raises Refused(('quiet',))
+"""
+MAKING = """
+>>> [stills(RING, 1), stills(RING, 2), choices_paper(RING, ((1, (0,)),)), choices_paper(RING, ((1, (0, 2)),)), choices_paper(RING, ((2, (0,)),))]
+[(0, 2), (0, 1, 2, 3), ('own',), ('core', 2), ('lack', (0, 2))]
+>>> made(RING, ((1, (0,)),)).left
+((1, 0, 3, 2), (3, 2, 1, 0), (1, 0, 3, 2), (3, 2, 1, 0))
+>>> [choices_paper(RING, ((1, (0, 2)), (2, (0, 1)))), made(RING, ((1, (0, 2)), (2, (0, 1)))).left, made(RING, ()).size]
+[('own',), ((1, 0, 2, 3), (1, 0, 3, 2), (0, 1, 3, 2), (0, 1, 3, 2)), 0]
+>>> [choices_of(SWITCH), choices_of(FOUR), is_choices_paper(RING, ((2, (0,)),), ("core", 1)), choices_paper(RING, ())]
+[((1, (0,)),), ((7, (0, 7)),), False, ('lack', (0,))]
+>>> [[len(list(all_quiet(size))) for size in (0, 1, 2, 3)], len(quiet_kinds(3)), quiet_kinds(2) == (Passing.unmoved(2), SWITCH), len(list(all_fair(2)))]
+[[1, 1, 2, 12], 5, True, 4]
+>>> made(RING, ((1, (0, 1)),))
+raises InvalidOperation
+"""
+LEVELS = """
+>>> [falls_paper(SWITCH)[0], letter_parts(SWITCH), levels(SWITCH), level(SWITCH), levels(FOUR), level(FOUR)]
+['ways', ((0, 1),), (2, 1), 1, (4,), None]
+>>> [is_falls_paper(SWITCH, ("ways", ((), (0,)))), is_falls_paper(SWITCH, ("ways", ((0, 0), (1, 0, 0)))), is_falls_paper(SWITCH, ("parts", (0,), (1,)))]
+[True, True, False]
+>>> BOTH = bent_union(SWITCH, Passing.unmoved(2), (1, 0), (0, 1))
+>>> [BOTH.left, letter_parts(BOTH), levels(BOTH), drawn(BOTH)[1], drawn(BOTH)[0] == Passing.unmoved(2)]
+[((1, 0, 3, 2), (1, 0, 3, 2), (0, 1, 2, 3), (0, 1, 2, 3)), ((0, 1), (2, 3)), (4, 2, 1), (0, 0, 1, 1), True]
+>>> [letter_parts(SWITCH * SWITCH), is_kept_lot(FOUR, (0,)), part_table(FOUR, (0,)) == Passing.unmoved(1), levels(Passing.unmoved(0))]
+[((0, 3), (1, 2)), True, True, (0,)]
+>>> part_table(FOUR, (0, 2))
+raises Refused(('kept', 0, 2))
+>>> bent_union(SWITCH, FOUR, (1, 0, 2, 3), (0, 1))
+raises Refused(('first',))
+"""
+MODULES = (errors, moves, groups, passing, words, vectors, still, doubles, listing, own, making, levels)
 
 
 def all_names():
     """All names of the modules that the examples use."""
     names = {}
-    for module in (errors, moves, groups, passing, words, vectors, still, doubles):
+    for module in MODULES:
         names.update(vars(module))
     return names
 
@@ -171,6 +230,18 @@ class TestExamples(Case):
 
     def test_doubles(self):
         self.assertEqual(self.run_block(TABLES + DOUBLES, all_names()), 5)
+
+    def test_listing(self):
+        self.assertEqual(self.run_block(TABLES + LISTING, all_names()), 5)
+
+    def test_own_doubles(self):
+        self.assertEqual(self.run_block(TABLES + OWN, all_names()), 6)
+
+    def test_making(self):
+        self.assertEqual(self.run_block(TABLES + MAKING, all_names()), 6)
+
+    def test_levels(self):
+        self.assertEqual(self.run_block(TABLES + LEVELS, all_names()), 6)
 
     def test_what_the_document_says_of_its_tables(self):
         names = all_names()

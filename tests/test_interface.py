@@ -56,6 +56,27 @@ INTERFACE = {
         "is_double_paper": ["plus", "circle", "value"], "turns_paper": ["plus", "turns"],
         "is_turns_paper": ["plus", "turns", "value"], "table_of": ["double"],
     },
+    "truenames.double.listing": {
+        "MAX_LISTED": 8,
+        "turn_rows": ["plus"], "doubles_on": ["plus"], "kind_count": ["plus"], "turns_like": ["plus", "kind"],
+        "kept_lots": ["group", "kind"],
+    },
+    "truenames.double.own": {
+        "MAX_OWN": 24,
+        "own_double": ["table"], "move_of": ["table", "thing"], "thing_of": ["table", "vector"],
+        "is_own": ["table", "double", "names"],
+    },
+    "truenames.double.making": {
+        "MAX_CHOICES": 8, "MAX_QUIET": 4, "MAX_FAIR": 3,
+        "stills": ["double", "thing"], "choices_paper": ["double", "choices"],
+        "is_choices_paper": ["double", "choices", "value"], "made": ["double", "choices"], "choices_of": ["table"],
+        "all_quiet": ["size"], "all_fair": ["size"], "quiet_kinds": ["size"],
+    },
+    "truenames.table.levels": {
+        "falls_paper": ["table"], "is_falls_paper": ["table", "value"], "letter_parts": ["table"],
+        "is_kept_lot": ["table", "letters"], "part_table": ["table", "letters"], "drawn": ["table"],
+        "levels": ["table"], "level": ["table"], "bent_union": ["one", "other", "first", "second"],
+    },
 }
 METHODS = {
     ("truenames.group.groups", "Group"): {
@@ -84,7 +105,9 @@ PROPERTIES = {
 }
 GENERATORS = (
     ("truenames.group.groups", "likenesses"), ("truenames.table.passing", "likenesses_of"),
-    ("truenames.word.words", "kin_words"),
+    ("truenames.word.words", "kin_words"), ("truenames.double.listing", "turn_rows"),
+    ("truenames.double.listing", "doubles_on"), ("truenames.double.making", "all_quiet"),
+    ("truenames.double.making", "all_fair"),
 )
 
 

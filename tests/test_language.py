@@ -317,9 +317,12 @@ class TestCode(unittest.TestCase):
         heads = []
         for _, node in nodes((ast.For, ast.YieldFrom, ast.comprehension)):
             heads.append(ast.dump(node.value if isinstance(node, ast.YieldFrom) else node.iter))
+        for _, node in nodes(ast.Call):
+            if isinstance(node.func, ast.Name) and node.func.id == "list":
+                heads += [ast.dump(argument) for argument in node.args]
         for place, node in nodes(ast.Call):
             if isinstance(node.func, ast.Name) and node.func.id in generators:
-                self.assertIn(ast.dump(node), heads, place)
+                self.assertTrue(ast.dump(node) in heads, place)
                 for argument in node.args:
                     self.assertNotIsInstance(argument, (ast.BinOp, ast.Call, ast.Subscript, ast.Compare), place)
 

@@ -9,6 +9,7 @@ from truenames.table.passing import (
     Passing, dots_of, dots_paper, fair_paper, form_of, is_dots_paper, is_fair_paper, least_form, likenesses_of,
 )
 from tests.helper import BENT, FOUR, SIX, SWITCH, TURNS, Case, all_moves, some_values
+from tests.quiet import quiet_of_size
 
 
 def passed_at(rows, word, index):
@@ -77,19 +78,8 @@ def pair_tables():
     return found
 
 
-def quiet_tables(size):
-    """All quiet tables of a size, found by trying all L."""
-    found = []
-    for left in itertools.product(all_moves(size), repeat=size):
-        try:
-            found.append(Passing.of_left(left))
-        except Refused:
-            pass
-    return found
-
-
 def shown_tables():
-    tables = pair_tables() + quiet_tables(2) + quiet_tables(3)
+    tables = pair_tables() + quiet_of_size(2) + quiet_of_size(3)
     tables += [SWITCH, FOUR, TURNS, Passing.unmoved(0), Passing.unmoved(1), Passing.unmoved(4), Passing.unmoved(8)]
     tables += [SWITCH * SWITCH, SWITCH * FOUR, Passing.unmoved(2) * TURNS, TURNS * SWITCH, dihedral(5)]
     return tables
@@ -505,8 +495,8 @@ class TestFormsAndLikenesses(Case):
             self.refuses(TooMany, 5, least_form, Passing.unmoved(size))
 
     def test_kinds_by_least_forms(self):
-        self.assertEqual(len({least_form(table) for table in quiet_tables(2)}), 2)
-        self.assertEqual(len({least_form(table) for table in quiet_tables(3)}), 5)
+        self.assertEqual(len({least_form(table) for table in quiet_of_size(2)}), 2)
+        self.assertEqual(len({least_form(table) for table in quiet_of_size(3)}), 5)
 
     def test_wrong_tables(self):
         for value in some_values() + [SIX, SWITCH.rows]:

@@ -225,7 +225,7 @@ class TestKin(WrongCase):
             self.assertIs(is_kin_paper(FOUR, one, other, wrong), False, wrong)
         self.assertIs(is_kin_paper(SWITCH, (0, 1), (0, 0), ("name", 1)), True)
         self.assertIs(is_kin_paper(SWITCH, (0, 1), (0, 0), ("name", 0)), True)
-        for wrong in (("name", True), ("name", False), ("name", 2), ("name", -1), ("name", None), ("name", (1,)), ["name", 1]):
+        for wrong in (("name", True), ("name", False), ("name", 2), ("name", -1), ("name", None), ("name", (1,)), ["name", 1], ("", 1)):
             self.assertIs(is_kin_paper(SWITCH, (0, 1), (0, 0), wrong), False, wrong)
         for value in some_values():
             self.assertIs(is_kin_paper(FOUR, one, other, value), False)
@@ -246,6 +246,8 @@ class TestKin(WrongCase):
         self.assertTrue(is_kin_paper(most, names, names[::-1], kin_paper(most, names, names[::-1])))
         for many, right in ((2000, True), (1998, True), (1999, False), (2001, False), (2002, False)):
             self.assertIs(is_kin_paper(FOUR, (0, 1, 2), (0, 1, 2), ("passings", (0,) * many)), right, many)
+        for many, right in ((1999, True), (2000, True), (2001, False)):
+            self.assertIs(is_kin_paper(SWITCH, (0, 1, 0), (0, 1, 0), ("passings", (0,) * many)), right, many)
         longest = (0,) * 60
         self.gives(("passings", ()), kin_paper, STILL, longest, longest)
         self.assertIs(is_kin_paper(STILL, longest, longest, ("passings", (58,))), True)

@@ -105,6 +105,11 @@ def _breaks_joined(rows, turns, a, b):
     return turns[rows[a][turns[a][b]]] != joined_moves(turns[a], turns[b])
 
 
+def circle_of_turns(plus, turns):
+    """The circle that right turns tell."""
+    return Group(tuple([tuple([plus.rows[a][b] for b in turn]) for a, turn in enumerate(turns)]))
+
+
 class Double:
     """Two groups on the same things that keep the rule of doubles."""
 
@@ -127,13 +132,11 @@ class Double:
         paper = turns_paper(plus, turns)
         if paper != ("turns",):
             raise Refused(paper)
-        circled = [tuple([plus.rows[a][b] for b in turn]) for a, turn in enumerate(turns)]
-        return cls(plus, Group(tuple(circled)))
+        return cls(plus, circle_of_turns(plus, turns))
 
     @classmethod
     def both(cls, group):
         """The double in which both sums are those of a group."""
-        check_group(group)
         return cls(group, group)
 
     @classmethod

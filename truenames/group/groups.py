@@ -214,7 +214,7 @@ def likenesses_between(one, other, makers):
     Makers are pairs of a thing and of its image. The least thing that they do
     not reach is led to each image in turn, so the moves come in their order.
     """
-    images = _images_of(one, other, makers)
+    images = images_of(one, other, makers)
     if images is None:
         return
     free = [thing for thing in range(len(one)) if thing not in images]
@@ -226,8 +226,11 @@ def likenesses_between(one, other, makers):
         yield from likenesses_between(one, other, further)
 
 
-def _images_of(one, other, makers):
-    """What a likeness with these makers does to all that they make, or None."""
+def images_of(one, other, makers):
+    """What a likeness with these makers does to all that they make, or None.
+
+    It leads unlike things to unlike ones, and keeps the products of what it leads.
+    """
     images = {one.unit: other.unit}
     found = [one.unit]
     reached = 0
@@ -250,7 +253,7 @@ def _images_of(one, other, makers):
 def like_paper(one, other):
     """A likeness of one to other; if there is none, how many things have each order."""
     _check_likened(one, other)
-    counts, others = _order_counts(one), _order_counts(other)
+    counts, others = order_counts(one), order_counts(other)
     # Groups of up to 12 things with equal counts are alike, so this finds one.
     if counts == others:
         for move in likenesses_between(one, other, ()):
@@ -263,7 +266,7 @@ def is_like_paper(one, other, value):
     _check_likened(one, other)
     if isinstance(value, tuple) and len(value) == 2 and is_same(value[0], "like"):
         return _is_likeness(one, other, value[1])
-    counts, others = _order_counts(one), _order_counts(other)
+    counts, others = order_counts(one), order_counts(other)
     return counts != others and is_same(value, ("orders", counts, others))
 
 
@@ -284,7 +287,8 @@ def _is_likeness(one, other, value):
     return True
 
 
-def _order_counts(group):
+def order_counts(group):
+    """The pairs of an order and of how many things have it, ascending."""
     orders = [group.order_of(thing) for thing in range(len(group))]
     return tuple([(order, orders.count(order)) for order in sorted(set(orders))])
 

@@ -248,6 +248,11 @@ def check_quiet(table):
         raise Refused(("quiet",))
 
 
+def table_of_left(left):
+    """The quiet table with these moves L; refused if there is none."""
+    return Passing(_told_by_dots(tuple([undone_move(move) for move in left])))
+
+
 def _passes_twice_unchanged(rows):
     for x, row in enumerate(rows):
         for y, pair in enumerate(row):

@@ -70,7 +70,7 @@ def base_and_remainders(table, most):
         if len(known) * many > most:
             raise TooMany(most)
         units = zero[:letter] + (many,) + zero[letter + 1:]
-        base = (_less_base(base, summed(units, scaled(known[here], -1))),) + base
+        base = (less_base(base, summed(units, scaled(known[here], -1))),) + base
         known = _with_letter(table, known, letter, many)
     return (base, known)
 
@@ -86,7 +86,7 @@ def _with_letter(table, known, letter, many):
     return grown
 
 
-def _less_base(base, vector):
+def less_base(base, vector):
     """A vector less those multiples of base vectors that leave the least entries.
 
     The base can be one of the last letters alone.
@@ -104,7 +104,7 @@ def remainder(table, vector):
     check_vector(table, vector)
     check_quiet(table)
     base, _ = base_and_remainders(table, MAX_TURNINGS)
-    return _less_base(base, vector)
+    return less_base(base, vector)
 
 
 def is_still(table, vector):
