@@ -106,9 +106,9 @@ def made(double, choices):
     if len(letters) > MAX_LETTERS:
         raise TooMany(MAX_LETTERS)
     numbers = {
-        (letters[letter][0], thing): letter
-        for letter in range(len(letters))
-        for thing in letters[letter][1]
+        (told[0], thing): letter
+        for letter, told in enumerate(letters)
+        for thing in told[1]
     }
     # The side of b, of a choice (a, K), does what the turn of b, of a, does by circle.
     doers = [double.turns[side[0]][choices[index][0]] for index, side in letters]
