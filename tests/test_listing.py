@@ -84,6 +84,52 @@ def is_kept(group, lot):
     return True
 
 
+def turn_rows_by_lots(plus):
+    """Of the lots of moves x to a + f(x) that lead each thing to each other one just once [8.2]."""
+    things, add = range(len(plus)), plus.rows
+    moves = {tuple(add[a][f[x]] for x in things) for a in things for f in likenesses_of_eight(plus)}
+    free = sorted(move for move in moves if leaves_none(move))
+    lots = set()
+    for one in free:
+        waiting = [joined_lot([one])]
+        for lot in waiting:
+            if len(lot) == len(plus):
+                lots.add(lot)
+            else:
+                # What is joined with one move of the lot must leave no thing, either.
+                more = [move for move in free if move not in lot and all(leaves_none(after(had, move)) for had in lot)]
+                grown = {joined_lot(lot + (move,)) for move in more if len(lot) == 4 or move > one}
+                waiting += sorted(lot for lot in grown if lot is not None and lot not in waiting)
+    lots = [lot for lot in lots if all(leaves_none(move) for move in lot if move != tuple(things))]
+    minus = [add[a].index(plus.unit) for a in things]
+    rows = []
+    for lot in lots:
+        heads = {move[plus.unit]: move for move in lot}
+        rows.append(tuple(tuple(add[minus[a]][heads[a][x]] for x in things) for a in things))
+    return sorted(rows)
+
+
+def after(one, other):
+    return tuple([one[x] for x in other])
+
+
+def leaves_none(move):
+    return all([x != y for x, y in enumerate(move)])
+
+
+def joined_lot(makers):
+    """All moves that come of joining, ascending, or None if there are more than eight."""
+    made = [tuple(range(8))]
+    for move in made:
+        for maker in makers:
+            further = after(move, maker)
+            if further not in made:
+                made.append(further)
+        if len(made) > 8:
+            return None
+    return tuple(sorted(made))
+
+
 class TestListing(WrongCase):
 
     def test_constant(self):
@@ -106,6 +152,37 @@ class TestListing(WrongCase):
                 self.assertEqual(told, sorted(set(told)))
                 for turns in told[::7]:
                     self.assertEqual(turn_papers(plus, turns), [("turns",)])
+
+    def test_turn_rows_of_eight_things(self):
+        for plus, many, _, _ in KNOWN:
+            if len(plus) != 8:
+                continue
+            told = turn_rows_by_lots(plus)
+            self.assertEqual(len(told), many)
+            for _ in range(2):
+                self.assertEqual(list(turn_rows(plus)), told)
+            for turns in told:
+                self.check_turns(plus, turns)
+            order = (3, 5, 0, 1, 7, 2, 6, 4)
+            places = [order.index(thing) for thing in range(8)]
+            moved = [tuple(tuple(places[turns[a][x]] for x in order) for a in order) for turns in told]
+            self.assertEqual(list(turn_rows(renamed_group(plus, order))), sorted(moved))
+
+    def check_turns(self, plus, turns):
+        """[8.1]: each is a likeness, and the one of a + turn_a(b) is turn_a behind turn_b."""
+        for a, turn in enumerate(turns):
+            self.assertTrue(kept_sums(plus, turn))
+            for b, x in itertools.product(range(8), repeat=2):
+                self.assertEqual(turns[plus.rows[a][turn[b]]][x], turn[turns[b][x]])
+
+    def test_two_goings_through_beside_one_another(self):
+        for plus in all_groups(8)[1:4]:
+            one, other = turn_rows(plus), turn_rows(plus)
+            pairs = list(zip(one, other))
+            self.assertEqual([first for first, _ in pairs], [second for _, second in pairs])
+            self.assertEqual([first for first, _ in pairs], list(turn_rows(plus)))
+            self.assertEqual(list(doubles_on(plus)), list(doubles_on(plus)))
+            self.assertEqual(kind_count(plus), kind_count(plus))
 
     def test_kinds_by_leading_doubles_to_one_another(self):
         for group, _, many, _ in KNOWN:

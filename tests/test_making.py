@@ -299,6 +299,29 @@ class TestMade(WrongCase):
             found = sorted(more)
 
 
+def words_pass_alike(rows):
+    """Whether all moves are moves, and three letters become the same in both ways of passing."""
+    letters = range(len(rows))
+    for x in letters:
+        if len({rows[x][y][0] for y in letters}) < len(rows) or len({rows[y][x][1] for y in letters}) < len(rows):
+            return False
+    for word in itertools.product(letters, repeat=3):
+        ends = []
+        for indices in ((0, 1, 0), (1, 0, 1)):
+            here = word
+            for at in indices:
+                here = here[:at] + rows[here[at]][here[at + 1]] + here[at + 2:]
+            ends.append(here)
+        if ends[0] != ends[1]:
+            return False
+    return True
+
+
+def names_agree(left, x, y, u, v):
+    """Whether L of x and y, joined, are those of u and v."""
+    return all(left[x][left[y][z]] == left[u][left[v][z]] for z in range(len(left)))
+
+
 class TestLists(WrongCase):
 
     def test_quiet_tables(self):
@@ -339,6 +362,53 @@ class TestLists(WrongCase):
         told = list(all_fair(3))
         for table, order in itertools.product((TURNS, TURNS.passed_back(), TURNS.mirrored()), all_moves(3)):
             self.assertIn(table.renamed(order), told)
+
+    def test_all_fair_tables_of_three_letters(self):
+        """By going through all L and R: 6 to the power of 6 tables."""
+        told = []
+        for left in itertools.product(all_moves(3), repeat=3):
+            for right in itertools.product(all_moves(3), repeat=3):
+                rows = tuple(tuple((left[x][y], right[y][x]) for y in range(3)) for x in range(3))
+                if words_pass_alike(rows):
+                    told.append(rows)
+        self.assertEqual(len(told), 66)
+        self.check_list(all_fair, 3, sorted(told))
+
+    def test_all_quiet_tables_of_four_letters(self):
+        """By going through all L, 24 to the power of 4, of which each tells all R."""
+        told = []
+        places = list(itertools.product(range(4), repeat=2))
+        for left in itertools.product(all_moves(4), repeat=4):
+            # x and y become u and v, and u and v become x and y: so L of u leads v to x.
+            pairs = {(x, y): (left[x][y], left[left[x][y]].index(x)) for x, y in places[:5]}
+            if all(names_agree(left, x, y, *pair) for (x, y), pair in pairs.items()):
+                rows = tuple(tuple((u, left[u].index(x)) for u in left[x]) for x in range(4))
+                if words_pass_alike(rows):
+                    told.append(rows)
+        self.assertEqual(len(told), 168)
+        self.check_list(all_quiet, 4, sorted(told))
+        self.check_kinds(sorted(told))
+
+    def check_list(self, call, size, told):
+        """Gone through twice, and beside one another, a list is the same."""
+        self.assertEqual([table.rows for table in call(size)], told)
+        one, other = call(size), call(size)
+        self.assertEqual([(next(one).rows, next(other).rows) for _ in told], [(rows, rows) for rows in told])
+        self.assertEqual((list(one), list(other)), ([], []))
+        self.assertTrue(all(type(table) is Passing for table in call(size)))
+
+    def check_kinds(self, told):
+        """The first table of each kind, found by giving its letters all other names."""
+        firsts, seen = [], set()
+        for rows in told:
+            if rows not in seen:
+                firsts.append(rows)
+            for order in all_moves(4):
+                back = [order.index(x) for x in range(4)]
+                seen.add(tuple(tuple(tuple(back[z] for z in rows[x][y]) for y in order) for x in order))
+        self.assertEqual(len(firsts), 23)
+        for _ in range(2):
+            self.assertEqual([table.rows for table in quiet_kinds(4)], firsts)
 
     def test_own_doubles_make_the_kinds(self):
         """[10.6]"""

@@ -27,7 +27,10 @@ def is_row(value, many, size):
     """Whether the value is a tuple of so many things below the size."""
     if not isinstance(value, tuple) or len(value) != many:
         return False
-    return all([is_thing(thing, size) for thing in value])
+    for thing in value:
+        if not isinstance(thing, int) or isinstance(thing, bool) or not 0 <= thing < size:
+            return False
+    return True
 
 
 def is_square(value, least, most):

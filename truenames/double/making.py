@@ -6,9 +6,10 @@ from truenames.checks import check_thing, check_within, is_lot, is_same, is_thin
 from truenames.double.doubles import check_double
 from truenames.double.own import own_double, own_moves
 from truenames.errors import InvalidOperation, Refused, TooMany
-from truenames.group.moves import joined_moves, orbits, undone_move
+from truenames.group.moves import orbits
 from truenames.group.rows import backs_of, least_part
-from truenames.table.passing import MAX_LETTERS, Passing, fair_paper, table_of_left
+from truenames.table.passing import MAX_LETTERS, Passing, renamed_table_rows, table_of_left
+from truenames.table.small import fair_table_rows, quiet_table_rows
 
 MAX_CHOICES = 8
 MAX_QUIET = 4
@@ -137,70 +138,26 @@ def choices_of(table):
 def all_quiet(size):
     """All quiet tables of a size, ascending by their rows."""
     check_within(size, 0, MAX_QUIET)
-    for rows in _quiet_rows(size):
+    for rows in quiet_table_rows(size):
         yield Passing(rows)
-
-
-def _quiet_rows(size):
-    moves = list(permutations(range(size)))
-    begun = [()]
-    for _ in range(size):
-        begun = [dots + (move,) for dots in begun for move in moves if _fits(dots + (move,))]
-    tables = [table_of_left(tuple([undone_move(row) for row in dots])) for dots in begun]
-    return sorted([table.rows for table in tables])
-
-
-def _fits(dots):
-    """Whether the first rows of dots keep the rule as far as they tell it.
-
-    The rule says for two letters x and y that the rows of x . y and x, joined,
-    are those of y . x and y.
-    """
-    for x, row in enumerate(dots):
-        for y in range(x):
-            one, other = row[y], dots[y][x]
-            if max(one, other) < len(dots):
-                if joined_moves(dots[one], row) != joined_moves(dots[other], dots[y]):
-                    return False
-    return True
 
 
 def all_fair(size):
     """All fair tables of a size, ascending by their rows."""
     check_within(size, 0, MAX_FAIR)
-    for rows in _fair_rows(size):
+    for rows in fair_table_rows(size):
         yield Passing(rows)
-
-
-def _fair_rows(size):
-    moves = list(permutations(range(size)))
-    rows_of_moves = [()]
-    for _ in range(size):
-        rows_of_moves = [row + (move,) for row in rows_of_moves for move in moves]
-    tables = [_rows_of(left, right) for left in rows_of_moves for right in rows_of_moves]
-    return sorted([rows for rows in tables if _may_be_fair(rows) and fair_paper(rows) == ("fair",)])
-
-
-def _rows_of(left, right):
-    return tuple([
-        tuple([(move[y], right[y][x]) for y in range(len(left))])
-        for x, move in enumerate(left)
-    ])
-
-
-def _may_be_fair(rows):
-    """Whether unlike pairs become unlike ones: this is quicker to see than the rest."""
-    pairs = [pair for row in rows for pair in row]
-    return len(set(pairs)) == len(pairs)
 
 
 def quiet_kinds(size):
     """One quiet table of each kind of a size, ascending by their rows."""
+    check_within(size, 0, MAX_QUIET)
+    orders = list(permutations(range(size)))
     found = []
     seen = {}
-    for table in all_quiet(size):
-        if table.rows not in seen:
-            found.append(table)
-            for order in permutations(range(size)):
-                seen[table.renamed(order).rows] = True
+    for rows in quiet_table_rows(size):
+        if rows not in seen:
+            found.append(Passing(rows))
+            for order in orders:
+                seen[renamed_table_rows(rows, order)] = True
     return tuple(found)

@@ -4,7 +4,7 @@ from truenames.checks import check_thing, is_row
 from truenames.double.doubles import Double, check_double
 from truenames.errors import InvalidOperation
 from truenames.group.groups import Group, images_of
-from truenames.group.rows import move_rows
+from truenames.group.rows import keeps_products, move_rows
 from truenames.table.passing import check_quiet, check_table
 from truenames.word.still import base_and_remainders, less_base
 from truenames.word.vectors import check_vector, summed, turning_of
@@ -69,12 +69,4 @@ def is_own(table, double, names):
     pairs = [(name, names[letter]) for letter, name in enumerate(told)]
     # The names make all of plus, so at most one move leads them as told.
     images = images_of(own.plus, double.plus, pairs)
-    return images is not None and _keeps_circle(own.circle.rows, double.circle.rows, images)
-
-
-def _keeps_circle(rows, others, images):
-    for a, row in enumerate(rows):
-        for b, made in enumerate(row):
-            if images[made] != others[images[a]][images[b]]:
-                return False
-    return True
+    return images is not None and keeps_products(own.circle.rows, double.circle.rows, images)

@@ -5,8 +5,8 @@ from truenames.checks import is_same, is_square, is_told
 from truenames.errors import InvalidGroup, InvalidOperation, Refused, TooMany
 from truenames.group.moves import check_makers, closure_within, is_move_of
 from truenames.group.rows import back_of, backs_of, broken_three, centre_of, least_part, order_in
-from truenames.group.rows import cyclic_rows, move_rows, pair_rows, polygon_rows, quaternion_rows
-from truenames.group.rows import unit_of
+from truenames.group.rows import cyclic_rows, keeps_products, move_rows, pair_rows, polygon_rows
+from truenames.group.rows import quaternion_rows, unit_of
 
 MAX_GROUP = 24
 MAX_LIKE = 12
@@ -280,16 +280,17 @@ def _check_likened(one, other):
 def _is_likeness(one, other, value):
     if len(one) != len(other) or not is_move_of(value, len(one)):
         return False
-    for a, row in enumerate(one.rows):
-        for b, made in enumerate(row):
-            if value[made] != other.rows[value[a]][value[b]]:
-                return False
-    return True
+    return keeps_products(one.rows, other.rows, value)
 
 
 def order_counts(group):
     """The pairs of an order and of how many things have it, ascending."""
-    orders = [group.order_of(thing) for thing in range(len(group))]
+    return counts_of_orders(group.rows, group.unit)
+
+
+def counts_of_orders(rows, unit):
+    """The pairs of an order and of how many things have it, for the rows of a group."""
+    orders = [order_in(rows, unit, thing) for thing in range(len(rows))]
     return tuple([(order, orders.count(order)) for order in sorted(set(orders))])
 
 

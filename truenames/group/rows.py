@@ -68,6 +68,15 @@ def least_part(rows, unit, things):
     return tuple(sorted(found))
 
 
+def keeps_products(rows, others, images):
+    """Whether what each thing is led to makes what their products are led to."""
+    for a, row in enumerate(rows):
+        for b, made in enumerate(row):
+            if images[made] != others[images[a]][images[b]]:
+                return False
+    return True
+
+
 def cyclic_rows(size):
     """The rows of the sums modulo the size."""
     return tuple([tuple([(a + b) % size for b in range(size)]) for a in range(size)])
