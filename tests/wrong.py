@@ -2,8 +2,8 @@
 
 A parameter has an error, whether the error keeps the argument, and a rule over the
 value and all arguments that tells right ones in another way than the program does.
-Behind the parameters stand the errors that come "then", each with what it keeps and
-a rule over all arguments that must hold.
+Behind the parameters stand the errors that come "then", each with what it keeps, or a
+function that tells it of all arguments, and a rule over all arguments that must hold.
 """
 
 import itertools
@@ -71,7 +71,7 @@ def first_error(parameters, thens, arguments):
             return (error, arguments[index] if keeps else None)
     for error, kept, rule in thens:
         if not rule(arguments):
-            return (error, kept)
+            return (error, kept(arguments) if callable(kept) else kept)
     return None
 
 

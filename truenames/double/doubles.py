@@ -212,6 +212,13 @@ def _rows_from_behind(rows):
     return tuple([tuple([row[thing] for row in rows]) for thing in range(len(rows))])
 
 
+def star_rows(double):
+    """The stars of each thing with all things."""
+    rows = double.plus.rows
+    backs = backs_of(rows, double.unit)
+    return tuple([tuple([rows[made][backs[b]] for b, made in enumerate(turn)]) for turn in double.turns])
+
+
 def check_double(value):
     """Refuse what is no double."""
     if not isinstance(value, Double):

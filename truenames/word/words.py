@@ -100,6 +100,11 @@ def word_of_names(table, names):
     check_table(table)
     check_word(table, names)
     check_quiet(table)
+    return letters_of(table, names)
+
+
+def letters_of(table, names):
+    """The word with these names, without checks."""
     turning = tuple(range(len(table)))
     letters = []
     for name in names:

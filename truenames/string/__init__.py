@@ -1,0 +1,1 @@
+"""Closed strings, their colours, and weights of passings."""
