@@ -4,9 +4,12 @@ import ast
 import unittest
 
 from truenames import errors
-from truenames.double import doubles, listing, making, own
+from truenames.desk import desk
+from truenames.double import doubles, ideals, joins, listing, making, own, rings
 from truenames.group import groups, moves
-from truenames.table import levels, passing
+from truenames.string import closed, weights
+from truenames.table import levels, passing, shadows
+from truenames.text import strings
 from truenames.word import still, vectors, words
 from tests.helper import Case
 
@@ -175,7 +178,122 @@ raises Refused(('kept', 0, 2))
 >>> bent_union(SWITCH, FOUR, (1, 0, 2, 3), (0, 1))
 raises Refused(('first',))
 """
-MODULES = (errors, moves, groups, passing, words, vectors, still, doubles, listing, own, making, levels)
+IDEALS = """
+>>> SIX = Double.of_turns(Group.cyclic(3) * Group.cyclic(2), ((0, 1, 2, 3, 4, 5), (0, 1, 4, 5, 2, 3)) * 3)
+>>> [left_parts(SIX), ideals(SIX)]
+[((0,), (0, 1), (0, 2, 4), (0, 1, 2, 3, 4, 5)), ((0,), (0, 2, 4), (0, 1, 2, 3, 4, 5))]
+>>> [right_row(SIX), left_row(SIX), still_part(SIX), still_centre(SIX), still_levels(SIX)]
+[((0, 1, 2, 3, 4, 5), (0, 2, 4), (0,)), ((0, 1, 2, 3, 4, 5), (0, 2, 4)), (0, 2, 4), (0,), (6, 2, 1)]
+>>> [ideals(RING), right_row(RING), left_row(RING) == right_row(RING), still_centre(RING), still_levels(RING)]
+[((0,), (0, 2), (0, 1, 2, 3)), ((0, 1, 2, 3), (0, 2), (0,)), True, (0, 2), (4, 2, 1)]
+>>> quotient, sides = quotient_of(RING, (0, 2))
+>>> [quotient == Double.both(Group.cyclic(2)), sides, starred(RING, (1,), (1,)), starred(RING, (), (1,)), is_left_part(SIX, (0, 1)), is_ideal(SIX, (0, 1))]
+[True, ((0, 2), (1, 3)), (0, 2), (0,), True, False]
+>>> polygon = Double.about(Group.polygon(3))
+>>> [len(left_parts(polygon)), still_part(polygon), still_levels(polygon), right_row(polygon) == left_row(polygon)]
+[3, (0,), (6,), True]
+>>> quotient_of(SIX, (0, 1))
+raises Refused(('ideal',))
+"""
+RINGS = """
+>>> SIX = Double.of_turns(Group.cyclic(6), tuple([tuple([(-1) ** a * b % 6 for b in range(6)]) for a in range(6)]))
+>>> [ring_paper(RING), ring_paper(SIX), ring_paper(Double.both(Group.polygon(3)))[0], is_ring_paper(SIX, ("adds", 3, 5, 4)), is_ring_paper(SIX, ("adds", 1, 1, 3))]
+[('ring',), ('adds', 1, 1, 1), 'plus', True, False]
+>>> [multiples(4, 2) == RING, multiples(5, 0) == Double.both(Group.cyclic(5)), multiples(8, 2).circle.is_commutative]
+[True, True, True]
+>>> [both_ways_paper(RING), both_ways_paper(SIX), both_ways_paper(multiples(8, 2)), is_both_ways_paper(multiples(8, 2), ("apart", 3, 5, 7))]
+[('both',), ('both',), ('apart', 1, 1, 1), True]
+>>> [swapped(RING).plus == RING.circle, swapped(RING).turns, double_of_ring(Group.cyclic(2), ((0, 0), (0, 0))) == Double.both(Group.cyclic(2))]
+[True, ((0, 1, 2, 3), (0, 3, 2, 1), (0, 1, 2, 3), (0, 3, 2, 1)), True]
+>>> double_of_ring(Group.cyclic(3), ((0, 0, 0), (0, 1, 2), (0, 2, 1)))
+raises Refused(('back', 2))
+>>> swapped(multiples(8, 2))
+raises Refused(('apart', 1, 1, 1))
+"""
+SHADOWS = """
+>>> [shadow_of(SWITCH), shadow_of(TURNS), shadow_of(Passing.of_pair((1, 0), (0, 1))), shadow_of(Passing.unmoved(0))]
+[((0, 1), (0, 1)), ((0, 2, 1), (2, 1, 0), (1, 0, 2)), ((1, 0), (1, 0)), ()]
+>>> [shadow_paper(((0, 1), (1, 0))), shadow_paper(((0, 0), (0, 1))), is_shadow_paper(((0, 1), (1, 0)), ("three", 1, 0, 1)), shadow_paper(shadow_of(TURNS))]
+[('three', 1, 0, 0), ('row', 0, 0, 1), True, ('shadow',)]
+>>> [row_map(TURNS, (0, 1, 2)), row_back(TURNS, (0, 2, 0)), row_map(TURNS, (2, 0, 2)), shadow_passed(shadow_of(TURNS), (0, 2, 0), 0)]
+[(0, 2, 0), (0, 1, 2), (2, 1, 0), (2, 1, 0)]
+>>> [table_of_shadow(shadow_of(TURNS)).passed(0, 1), shadow_of(table_of_shadow(shadow_of(TURNS))) == shadow_of(TURNS), row_map(SWITCH, (0, 0))]
+[(1, 2), True, (0, 1)]
+>>> [calm_paper(shadow_of(TURNS)), is_calm_paper(((1, 0), (1, 0)), ("letter", 0)), is_calm_paper(((1, 0), (1, 0)), ("letter", 1)), is_calm_paper((), ("calm",))]
+[('calm',), True, True, True]
+>>> table_of_shadow(((0, 1), (1, 0)))
+raises Refused(('three', 1, 0, 0))
+"""
+CLOSED = """
+>>> [colour_count(SWITCH, 2, (1, 1, 1)), colour_count(SWITCH, 2, (1, 1)), list(colours(SWITCH, 2, (1,))), rings_of(2, (1, 1))]
+[2, 4, [(0, 1), (1, 0)], ((0,), (1,))]
+>>> [colour_count(TURNS, 2, (1,)), colour_count(TURNS, 2, (1, 1)), colour_count(TURNS, 2, (1, 1, 1)), list(colours(TURNS, 2, (1, 1)))]
+[3, 3, 9, [(0, 0), (1, 1), (2, 2)]]
+>>> [shadow_colour_count(((0, 2, 1), (2, 1, 0), (1, 0, 2)), 2, (1, 1, 1)), shadow_colour_count(((1, 0), (1, 0)), 2, (1,)), shadow_colour_count(((1, 0), (1, 0)), 1, ())]
+[9, 0, 2]
+>>> [braid_move(3, (1, 2)), rings_of(3, (1, -2)), rings_of(4, (1, 3)), turned_round(3, (1, 2, -1), 1), with_turn(1, (), -1)]
+[(2, 0, 1), ((0, 1, 2),), ((0, 1), (2, 3)), (2, -1, 1), (2, (-1,))]
+>>> colour_count(SWITCH, 2, (2,))
+raises InvalidStrings
+>>> with_turn(5, (), 1)
+raises TooMany(5)
+"""
+WEIGHTS = """
+>>> [of_letters(SWITCH, 4, (0, 1)), weight_counts(SWITCH, 4), weight_counts(SWITCH, 3), weight_counts(Passing.unmoved(2), 5)]
+[((2, 0), (0, 2)), (64, 2), (27, 3), (625, 1)]
+>>> [weights_paper(SWITCH, 4, ((3, 1), (1, 2))), weights_paper(SWITCH, 4, ((0, 1), (0, 0)))[0], is_weights_paper(SWITCH, 4, ((0, 1), (0, 0)), ("three", 0, 0, 1))]
+[('fair',), 'three', True]
+>>> [is_source_paper(SWITCH, 4, ((2, 0), (0, 2)), ("letters", (3, 2))), is_source_paper(SWITCH, 4, ((1, 0), (0, 3)), ("bar", ((2, 0), (0, 0))))]
+[True, True]
+>>> [diagonal_of(((2, 4), (6, 8))), diagonal_of(((4, 6),)), diagonal_of(((0, 0),)), diagonal_of(())]
+[(2, 4), (2,), (), ()]
+>>> [string_sums(SWITCH, 4, ((1, 0), (0, 1)), 2, (1, 1)), string_sums(SWITCH, 4, ((1, 3), (3, 1)), 2, (1,)), string_sums(SWITCH, 4, ((1, 3), (3, 1)), 2, (-1,))]
+[{0: 2, 2: 2}, {3: 2}, {1: 2}]
+>>> of_letters(SWITCH, 4, (0, 4))
+raises InvalidWeights
+"""
+JOINS = """
+>>> SIX = Group.polygon(3)
+>>> TWO, THREE = Double.both(Group.cyclic(2)), Double.both(Group.cyclic(3))
+>>> MIRROR = join(TWO, THREE, ((0, 1, 2), (0, 2, 1)))
+>>> [MIRROR.plus.is_commutative, MIRROR.circle.is_commutative, MIRROR.circle.times(3, 1), MIRROR.circle.times(1, 3), MIRROR.turns[4], MIRROR.is_plain]
+[True, False, 5, 4, (0, 2, 1, 3, 5, 4), False]
+>>> [join(TWO, THREE, ((0, 1, 2), (0, 1, 2))) == TWO * THREE, join_paper(TWO, THREE, ((0, 1, 2), (1, 0, 2))), join_paper(THREE, THREE, ((0, 1, 2), (0, 2, 1), (0, 1, 2)))]
+[True, ('likeness', 1, 0, 0), ('joined', 1, 2)]
+>>> [double_form(TWO), double_form(least_double(TWO.renamed((1, 0)))), list(double_likenesses(RING)), len(list(double_likenesses(Double.both(SIX))))]
+['0 1 1 0 0 1 1 0', '0 1 1 0 0 1 1 0', [(0, 1, 2, 3), (0, 3, 2, 1)], 6]
+>>> [like_double_paper(RING, RING.renamed((1, 0, 3, 2)))[0], like_double_paper(Double.both(SIX), Double.about(SIX))[0], is_like_double_paper(TWO, TWO, ("like", (1, 0)))]
+['like', 'forms', False]
+>>> join(TWO, THREE, ((0, 1, 2), (1, 0, 2)))
+raises Refused(('likeness', 1, 0, 0))
+"""
+DESK = """
+>>> desk = Desk(2)
+>>> [desk.keep("t", SWITCH), desk.keep("w", (0, 0)), desk.keep("v", (1, 1)), desk.promise("p", ("kin", "t", "w", "v")), str(desk)]
+[1, 2, 3, 4, 'desk of 2 letters: 3 items, 1 promises']
+>>> [desk.pass_at("t", "w", 0), desk.item("w"), desk.rename((1, 0)), desk.item("w"), desk.item("t") == SWITCH, desk.undo(times=2), desk.item("w")]
+[5, (1, 1), 6, (0, 0), True, 4, (0, 0)]
+>>> desk.keep("w", (0, 1))
+raises Refused(('promise', 'p'))
+"""
+TEXTS = """
+>>> [write_value((0, 1, 1)), write_value(()), write_value(SWITCH), write_value(Group.cyclic(2))]
+['word 0 1 1', 'word', 'table 2\\n1,1 0,1\\n1,0 0,0', 'group 2\\n0 1\\n1 0']
+>>> [read_value("table 1\\n0,0") == Passing.unmoved(1), read_value("table 0") == Passing.unmoved(0), read_value("word 5 0"), read_value(write_value(RING)) == RING]
+[True, True, (5, 0), True]
+>>> write_value((24,))
+raises InvalidOperation
+>>> read_value("word 01")
+raises ParseError(0)
+>>> read_value("group 2\\n0 1")
+raises ParseError(2)
+>>> read_value("table 1\\n0,0\\n")
+raises ParseError(2)
+"""
+MODULES = (
+    errors, moves, groups, passing, words, vectors, still, doubles, listing, own, making, levels,
+    ideals, rings, shadows, closed, weights, joins, desk, strings,
+)
 
 
 def all_names():
@@ -242,6 +360,30 @@ class TestExamples(Case):
 
     def test_levels(self):
         self.assertEqual(self.run_block(TABLES + LEVELS, all_names()), 6)
+
+    def test_parts_of_doubles(self):
+        self.assertEqual(self.run_block(TABLES + IDEALS, all_names()), 6)
+
+    def test_rings(self):
+        self.assertEqual(self.run_block(TABLES + RINGS, all_names()), 6)
+
+    def test_shadows(self):
+        self.assertEqual(self.run_block(TABLES + SHADOWS, all_names()), 6)
+
+    def test_closed_strings(self):
+        self.assertEqual(self.run_block(TABLES + CLOSED, all_names()), 6)
+
+    def test_weights(self):
+        self.assertEqual(self.run_block(TABLES + WEIGHTS, all_names()), 6)
+
+    def test_joins(self):
+        self.assertEqual(self.run_block(TABLES + JOINS, all_names()), 5)
+
+    def test_desk(self):
+        self.assertEqual(self.run_block(TABLES + DESK, all_names()), 3)
+
+    def test_texts(self):
+        self.assertEqual(self.run_block(TABLES + TEXTS, all_names()), 6)
 
     def test_what_the_document_says_of_its_tables(self):
         names = all_names()

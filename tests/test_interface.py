@@ -77,6 +77,47 @@ INTERFACE = {
         "is_kept_lot": ["table", "letters"], "part_table": ["table", "letters"], "drawn": ["table"],
         "levels": ["table"], "level": ["table"], "bent_union": ["one", "other", "first", "second"],
     },
+    "truenames.double.ideals": {
+        "left_parts": ["double"], "ideals": ["double"], "is_left_part": ["double", "things"],
+        "is_ideal": ["double", "things"], "quotient_of": ["double", "things"], "still_part": ["double"],
+        "still_centre": ["double"], "still_levels": ["double"], "starred": ["double", "one", "other"],
+        "right_row": ["double"], "left_row": ["double"],
+    },
+    "truenames.double.rings": {
+        "MAX_MULTIPLES": 24,
+        "ring_paper": ["double"], "is_ring_paper": ["double", "value"], "double_of_ring": ["plus", "product"],
+        "multiples": ["size", "step"], "both_ways_paper": ["double"], "is_both_ways_paper": ["double", "value"],
+        "swapped": ["double"],
+    },
+    "truenames.table.shadows": {
+        "shadow_paper": ["rows"], "is_shadow_paper": ["rows", "value"], "shadow_of": ["table"],
+        "table_of_shadow": ["rows"], "row_map": ["table", "word"], "row_back": ["table", "names"],
+        "shadow_passed": ["rows", "names", "index"], "calm_paper": ["rows"], "is_calm_paper": ["rows", "value"],
+    },
+    "truenames.string.closed": {
+        "MAX_STRINGS": 5, "MAX_CROSSINGS": 40, "MAX_ROWS": 4096,
+        "colours": ["table", "strings", "word"], "colour_count": ["table", "strings", "word"],
+        "shadow_colour_count": ["rows", "strings", "word"], "braid_move": ["strings", "word"],
+        "rings_of": ["strings", "word"], "turned_round": ["strings", "word", "count"],
+        "with_turn": ["strings", "word", "sign"],
+    },
+    "truenames.string.weights": {
+        "MAX_MODULUS": 30, "MAX_DIAGONAL": 24,
+        "weights_paper": ["table", "modulus", "weights"],
+        "is_weights_paper": ["table", "modulus", "weights", "value"],
+        "of_letters": ["table", "modulus", "numbers"], "source_paper": ["table", "modulus", "weights"],
+        "is_source_paper": ["table", "modulus", "weights", "value"], "weight_counts": ["table", "modulus"],
+        "diagonal_of": ["rows"], "string_sums": ["table", "modulus", "weights", "strings", "word"],
+    },
+    "truenames.double.joins": {
+        "MAX_LIKE_DOUBLE": 8, "MAX_LIKENED_DOUBLE": 12,
+        "join_paper": ["one", "other", "acts"], "is_join_paper": ["one", "other", "acts", "value"],
+        "join": ["one", "other", "acts"], "double_form": ["double"], "least_double": ["double"],
+        "like_double_paper": ["one", "other"], "is_like_double_paper": ["one", "other", "value"],
+        "double_likenesses": ["double"],
+    },
+    "truenames.desk.desk": {"MAX_KEPT": 12, "MAX_PROMISES": 12, "Desk": ["size"]},
+    "truenames.text.strings": {"MAX_TEXT": 3000, "write_value": ["value"], "read_value": ["text"]},
 }
 METHODS = {
     ("truenames.group.groups", "Group"): {
@@ -94,6 +135,12 @@ METHODS = {
         "of_turns": ["plus", "turns"], "both": ["group"], "about": ["group"], "star": ["a", "b"], "renamed": ["order"],
         "__invert__": [], "__mul__": ["other"], "__eq__": ["other"], "__len__": [], "__str__": [],
     },
+    ("truenames.desk.desk", "Desk"): {
+        "keep": ["name", "item"], "pass_at": ["table", "word", "index"], "rename": ["order"], "drop": ["name"],
+        "promise": ["label", "promise"], "let_go": ["label"], "undo": ["times"], "redo": ["times"], "during": ["call"],
+        "item": ["name"], "promised": ["label"], "twin": [], "__contains__": ["value"], "__eq__": ["other"],
+        "__len__": [], "__str__": [],
+    },
 }
 CLASS_METHODS = (
     "cyclic", "polygon", "quaternions", "of_moves", "unmoved", "of_left", "of_dots", "of_pair", "of_turns", "both", "about",
@@ -102,12 +149,14 @@ PROPERTIES = {
     ("truenames.group.groups", "Group"): ("rows", "size", "unit", "is_commutative", "centre"),
     ("truenames.table.passing", "Passing"): ("size", "rows", "left", "right", "is_quiet"),
     ("truenames.double.doubles", "Double"): ("plus", "circle", "size", "unit", "turns", "is_plain"),
+    ("truenames.desk.desk", "Desk"): ("size", "names", "labels", "deeds"),
 }
 GENERATORS = (
     ("truenames.group.groups", "likenesses"), ("truenames.table.passing", "likenesses_of"),
     ("truenames.word.words", "kin_words"), ("truenames.double.listing", "turn_rows"),
     ("truenames.double.listing", "doubles_on"), ("truenames.double.making", "all_quiet"),
-    ("truenames.double.making", "all_fair"),
+    ("truenames.double.making", "all_fair"), ("truenames.string.closed", "colours"),
+    ("truenames.double.joins", "double_likenesses"),
 )
 
 
@@ -138,6 +187,22 @@ class TestInterface(unittest.TestCase):
                 self.assertIn(method, vars(shown), (name, method))
                 self.assertEqual(parameters(getattr(shown, method)), told, (name, method))
                 self.assertEqual(isinstance(vars(shown)[method], classmethod), method in CLASS_METHODS)
+
+    def test_parameters_by_keyword(self):
+        """[0.3]: just those of `undo` and `redo`, which need not be told."""
+        calls = [
+            getattr(importlib.import_module(place), name)
+            for place, names in INTERFACE.items() for name, told in names.items() if isinstance(told, list)
+        ]
+        for (place, name), methods in METHODS.items():
+            calls += [getattr(getattr(importlib.import_module(place), name), method) for method in methods]
+        found = [
+            (call.__qualname__, told.name, told.kind, told.default)
+            for call in calls for told in inspect.signature(call).parameters.values()
+            if told.kind is not told.POSITIONAL_OR_KEYWORD or told.default is not told.empty
+        ]
+        by_keyword = inspect.Parameter.KEYWORD_ONLY
+        self.assertEqual(found, [("Desk.undo", "times", by_keyword, 1), ("Desk.redo", "times", by_keyword, 1)])
 
     def test_properties_stand_in_their_own_class(self):
         for (place, name), told in PROPERTIES.items():

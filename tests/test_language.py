@@ -28,6 +28,7 @@ METHODS = set(
     "setdefault split splitlines startswith strip update upper values zfill bit_length".split()
 )
 DOUBLE = {"__init__", "__eq__", "__repr__", "__str__", "__len__", "__mul__", "__invert__", "__contains__"}
+CHANGING = ("append", "extend", "pop", "insert", "clear", "update", "remove", "reverse", "setdefault")
 BARRED = set(
     "register mro elements open input law version_info with_traceback add_note attrgetter breakpoint builtins compile "
     "copyright credits delattr dir eval exec exit gc getattr globals hasattr help id importlib license locals "
@@ -39,7 +40,7 @@ WORDS = re.compile(
 )
 STATEMENTS = (
     ast.Assign, ast.AugAssign, ast.If, ast.While, ast.For, ast.Return, ast.Break, ast.Continue, ast.Pass, ast.Raise,
-    ast.Expr, ast.FunctionDef, ast.ClassDef, ast.ImportFrom,
+    ast.Expr, ast.FunctionDef, ast.ClassDef, ast.ImportFrom, ast.Try,
 )
 EXPRESSIONS = (
     ast.BoolOp, ast.BinOp, ast.UnaryOp, ast.IfExp, ast.Dict, ast.ListComp, ast.DictComp, ast.Compare, ast.Call,
@@ -72,6 +73,30 @@ def bound_names(tree):
             yield node.id
         elif isinstance(node, ast.arg):
             yield node.arg
+
+
+def called_names(node):
+    """The names of what a function calls, of methods too."""
+    calls = [part.func for part in ast.walk(node) if isinstance(part, ast.Call)]
+    return [func.id if isinstance(func, ast.Name) else func.attr for func in calls]
+
+
+def changed_by(node):
+    """What a function changes that it did not make itself."""
+    made = [
+        part.targets[0].id for part in ast.walk(node)
+        if isinstance(part, ast.Assign) and isinstance(part.targets[0], ast.Name)
+        and isinstance(part.value, (ast.List, ast.Dict, ast.ListComp))
+    ]
+    changed = [
+        ast.unparse(part.value) for part in ast.walk(node)
+        if isinstance(part, (ast.Attribute, ast.Subscript)) and isinstance(part.ctx, ast.Store)
+    ]
+    changed += [
+        ast.unparse(part.func.value) for part in ast.walk(node)
+        if isinstance(part, ast.Call) and isinstance(part.func, ast.Attribute) and part.func.attr in CHANGING
+    ]
+    return [name for name in changed if name not in made]
 
 
 class TestFiles(unittest.TestCase):
@@ -214,7 +239,7 @@ class TestNames(unittest.TestCase):
         for place, node in nodes(ast.Attribute):
             self.assertIn(node.attr, own | stored | METHODS, place)
             if isinstance(node.ctx, ast.Store):
-                self.assertEqual(node.value.id, "self", place)
+                self.assertIn(node.value.id, ("self", "other"), place)
 
     def test_a_method_is_no_attribute_of_its_class(self):
         for place, node in nodes(ast.ClassDef):
@@ -249,7 +274,8 @@ class TestCode(unittest.TestCase):
             self.assertIsNone(node.returns, place)
             for decorator in node.decorator_list:
                 self.assertIn(decorator.id, ("property", "classmethod"), place)
-            self.assertEqual(node.args.defaults + node.args.kw_defaults, [], place)
+            self.assertEqual(node.args.defaults, [], place)
+            self.assertTrue(all(isinstance(default, ast.Constant) for default in node.args.kw_defaults), place)
             self.assertTrue(all(argument.annotation is None for argument in node.args.args), place)
         for place, node in nodes(ast.ClassDef):
             self.assertEqual(node.decorator_list + node.keywords, [], place)
@@ -300,6 +326,42 @@ class TestCode(unittest.TestCase):
             self.assertIsInstance(node.exc, ast.Call, place)
             self.assertRegex(node.exc.func.id, r"^[A-Z]", place)
             self.assertIsNone(node.cause, place)
+
+    def test_errors_are_caught_by_their_own_names(self):
+        """Own errors alone, around few calls; behind a `finally` stand plain assignments of names."""
+        own = {node.name for node in read_tree(ROOT / "errors.py").body if isinstance(node, ast.ClassDef)}
+        for place, node in nodes(ast.Try):
+            for handler in node.handlers:
+                self.assertIn(handler.type.id, own, place)
+                self.assertIsNone(handler.name, place)
+            for part in node.finalbody:
+                self.assertIsInstance(part, ast.Assign, place)
+                self.assertFalse([one for one in ast.walk(part) if isinstance(one, (ast.Subscript, ast.Call, ast.BinOp))], place)
+            self.assertFalse(node.orelse, place)
+
+    def test_operators_and_properties_change_nothing(self):
+        """What stands in them, and in what they call or create, changes just what it made itself."""
+        functions = {}
+        for _, node in nodes(ast.FunctionDef):
+            if node.name != "__init__":
+                functions.setdefault(node.name, []).append(node)
+        creates = {
+            node.name: part for _, node in nodes(ast.ClassDef) for part in node.body
+            if isinstance(part, ast.FunctionDef) and part.name == "__init__"
+        }
+        waiting = [
+            node for _, node in nodes(ast.FunctionDef)
+            if node.name in DOUBLE - {"__init__"} or any(one.id == "property" for one in node.decorator_list)
+        ]
+        for node in waiting:
+            for name in called_names(node):
+                if name in creates:
+                    further = [one for called in called_names(creates[name]) for one in functions.get(called, ())]
+                else:
+                    further = functions.get(name, ())
+                waiting += [one for one in further if one not in waiting]
+            self.assertEqual(changed_by(node), [], node.name)
+        self.assertGreater(len(waiting), 60)
 
     def test_docstrings(self):
         for path in FILES:

@@ -1,0 +1,1 @@
+"""Texts of words, tables, groups and doubles."""
