@@ -4,6 +4,7 @@ import copy
 import itertools
 import unittest
 
+from truenames.desk.desk import Desk
 from truenames.double.doubles import Double
 from truenames.errors import InvalidNumber, ParseError, NothingToUndo, Refused, TooMany, UnknownName
 from truenames.group.groups import Group
@@ -53,6 +54,7 @@ def some_values():
         ["group"], ("group", 0), ("like", (0, 1)), nested(8, 0), nested(8, "deep"), {"a": [{"b": (1,)}]},
         Group.cyclic(1), Group.cyclic(2), SIX, Passing.unmoved(0), SWITCH, TURNS,
         (Group.cyclic(2), SWITCH), {"group": Group.cyclic(2)}, RING, Double.about(SIX), [RING], (RING,),
+        Desk(2), (Desk(0),), [Desk(2), {"desk": (Desk(1),)}],
     ]
 
 

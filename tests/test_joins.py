@@ -13,7 +13,7 @@ from truenames.double.joins import (
 )
 from truenames.double.listing import doubles_on
 from truenames.errors import InvalidDouble, InvalidMove, Refused, TooMany
-from truenames.group.groups import Group, all_groups, like_paper
+from truenames.group.groups import Group, all_groups, like_paper, likenesses
 from tests.helper import RING, SIX, all_moves, some_values
 from tests.shown_doubles import LARGE_DOUBLES, SMALL_DOUBLES, mirrored, moved_double, multiples_of
 from tests.test_ideals import FEW
@@ -87,6 +87,15 @@ def form_of(plus, circle):
     return " ".join(str(thing) for rows in (plus, circle) for row in rows for thing in row)
 
 
+def moves_of_one_sum(double):
+    """Moves that keep plus and not circle, and moves that keep circle and not plus."""
+    found = []
+    for group in (double.plus, double.circle):
+        kept = [move for move in likenesses(group) if not leads_sums(double, double, move)]
+        found += kept[:2] + kept[-1:]
+    return found
+
+
 def some_acts(one, other):
     """Idle acts, those in which two things act by turns, all likenesses in turn, and changed ones."""
     idle = tuple(range(len(other)))
@@ -96,6 +105,9 @@ def some_acts(one, other):
         yield tuple(move if a % 2 else idle for a in range(len(one)))
         yield tuple(move if a >= len(one) // 2 else idle for a in range(len(one)))
     yield tuple(moves[a % len(moves)] for a in range(len(one)))
+    for move in moves_of_one_sum(other):
+        yield tuple(move if a % 2 else idle for a in range(len(one)))
+        yield (move,) * len(one)
     for at in range(len(one)):
         yield (idle,) * at + (idle[::-1],) + (idle,) * (len(one) - at - 1)
         yield (idle,) * at + (idle[1:] + idle[:1],) + (idle,) * (len(one) - at - 1)
@@ -143,6 +155,19 @@ class TestJoins(WrongCase):
                 words += [self.check_acts(one, other, acts) for acts in some_acts(one, other)]
         self.assertEqual(set(words), {"join", "likeness", "joined"})
         self.assertGreater(words.count("join"), 100)
+
+    def test_acts_that_keep_one_sum_alone(self):
+        """Neither plus nor circle is enough for a likeness."""
+        found = set()
+        for other in [RING, TURNED, mirrored(6), multiples_of(8, 2)] + list(doubles_on(TWOS.plus)):
+            for move in moves_of_one_sum(other):
+                found.add(tuple(leads_sums(both, both, move) for both in (Double.both(other.plus), Double.both(other.circle))))
+                acts = (tuple(range(len(other))), move)
+                told = acts_papers(TWO, other, acts)[0]
+                self.assertEqual(told[0], "likeness")
+                self.gives(told, join_paper, TWO, other, acts)
+                self.refuses(Refused, told, join, TWO, other, acts)
+        self.assertEqual(found, {(True, False), (False, True)})
 
     def test_all_acts_of_few_things(self):
         for one, other in ((TWO, THREE), (THREE, TWO), (TWO, TWO), (ONE, THREE), (THREE, THREE)):

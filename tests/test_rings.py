@@ -228,6 +228,8 @@ class TestMultiples(WrongCase):
             if not below(value, 4):
                 self.refuses(InvalidNumber, value, multiples, 4, value)
         self.refuses(InvalidNumber, 1, multiples, 1, 1)
+        self.refuses(InvalidNumber, 0, multiples, 0, 5)
+        self.refuses(InvalidNumber, 25, multiples, 25, -1)
         self.gives(Double.both(Group.cyclic(1)), multiples, 1, 0)
 
 

@@ -378,7 +378,7 @@ class TestDiagonals(WrongCase):
             and len({len(row) for row in value}) <= 1
         )
         refused = 0
-        more = [((1, 2), (3,)), ((1,) * 25,), ((1,),) * 25, ((1,) * 24,) * 24, ((10 ** 60,),), ((10 ** 60 - 1,),), ((True,),), (1, 2), [(1,)], ((),) * 25]
+        more = [((1, 2), (3,)), ((1, 2), 3), ((1, 2), [1, 2]), ((1,) * 25,), ((1,),) * 25, ((1,) * 24,) * 24, ((10 ** 60,),), ((10 ** 60 - 1,),), ((True,),), (1, 2), [(1,)], ((),) * 25]
         for value in some_values() + more:
             if right(value):
                 diagonal_of(value)

@@ -1,7 +1,6 @@
 """Promises that a desk keeps: their forms, and whether they are true."""
 
 from truenames.checks import is_within
-from truenames.double.doubles import Double
 from truenames.double.own import own_double
 from truenames.errors import TooMany
 from truenames.table.levels import letter_parts, level
@@ -75,13 +74,11 @@ def _is_true_of_quiet(promise, table, others):
     return sorted(names_of(table, one)) == sorted(names_of(table, other))
 
 
-def _is_own(table, double):
+def _is_own(table, value):
     """Whether a value is the own double of a quiet table."""
-    if not isinstance(double, Double):
-        return False
     try:
         own, _ = own_double(table)
     except TooMany:
         # No double has that many things.
         return False
-    return own == double
+    return own == value
